@@ -1,0 +1,1 @@
+"""Honeyturns: ants that take turns at a vine whose year comes round."""
