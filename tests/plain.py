@@ -114,3 +114,125 @@ def all_lists(thing):
 def kinds(thing):
     """The thing written out: unlike ==, this tells True from 1 and a list from a tuple."""
     return repr(thing)
+
+
+def plain_year(hill):
+    return plain_given_by(hill, len(hill[0]) - 1)
+
+
+def plain_line(hill, state):
+    return plain_given_by(hill, state[0]) - state[2]
+
+
+def plain_lost_at(hill, number):
+    """By the first open evening with so much given; years ahead of day 0 are as those behind it."""
+    around = plain_year(hill)
+    alike = number
+    while alike < 1:
+        alike += around
+    return max(0, plain_given_by(hill, plain_day_of(hill, alike)) - hill[2] - alike)
+
+
+def plain_losses_of_year(hill):
+    """What is lost at each number of a year."""
+    return [plain_lost_at(hill, number) for number in range(plain_year(hill))]
+
+
+def plain_led(hill, ant, line, lost):
+    """Led by what is lost at each number of a year."""
+    number = line + hill[1][ant]
+    return number + lost[number % len(lost)]
+
+
+def plain_way(hill, state):
+    """The rows (STATE, lost) of a STATE and behind its turns, till ant and line around the year come again.
+
+    Told with the rows is the number of the one that the last one is like.
+    """
+    around = plain_year(hill)
+    rows = [(state, 0)]
+    seen = {}
+    while True:
+        last = rows[-1][0]
+        like = (last[1], plain_line(hill, last) % around)
+        if like in seen:
+            return rows, seen[like]
+        seen[like] = len(rows) - 1
+        rows.append(plain_turn(hill, last))
+
+
+def some_states(hill):
+    """A few STATEs of a hill: with each ant, with a pot that is bare, full, between."""
+    days = [day for day in range(2 * len(hill[0])) if is_open(hill, day)]
+    pots = sorted({0, hill[2] // 2, hill[2]})
+    return [
+        (days[ant % len(days)], ant, pot) for ant in range(len(hill[1])) for pot in pots
+    ] + [(days[-1], 0, 0)]
+
+
+def some_hills():
+    """The named hills and some of the small ones, of each ring and each pot."""
+    return HILLS + tuple(small_hills()[::13])
+
+
+def lists_in(thing):
+    """All lists in the thing, at any depth."""
+    if not isinstance(thing, (list, tuple)):
+        return []
+    own = [thing] if isinstance(thing, list) else []
+    return own + [found for part in thing for found in lists_in(part)]
+
+
+def spoil(thing):
+    """Changes each list in the thing."""
+    for found in lists_in(thing):
+        found.reverse()
+        found.append("spoilt")
+
+
+def check_asking(case, ask, names, handed, other):
+    """Asked by places and by names, with lists for tuples, ask tells the same each time.
+
+    Nothing handed in is changed, told lists are the asker's own, and nothing is kept: the hill is
+    then made the other one in place.
+    """
+    told = kinds(ask(*handed))
+    for way in itertools.product(*[with_lists(part) for part in handed]):
+        before = kinds(way)
+        by_place = ask(*way)
+        by_name = ask(**dict(reversed(list(zip(names, way)))))
+        case.assertEqual((kinds(by_place), kinds(by_name), kinds(way)), (told, told, before))
+        same = [id(found) for thing in (by_place, by_name, way) for found in lists_in(thing)]
+        case.assertEqual(len(same), len(set(same)), (ask, way))
+        spoil(by_place)
+        case.assertEqual((kinds(by_name), kinds(ask(*way)), kinds(way)), (told, told, before))
+    hill = all_lists(handed[0])
+    kept = ask(hill, *handed[1:])
+    hill[:] = all_lists(other)
+    case.assertEqual(kinds(kept), told)
+    case.assertEqual(kinds(ask(hill, *handed[1:])), kinds(ask(other, *handed[1:])))
+    case.assertNotEqual(kinds(ask(other, *handed[1:])), told, "the other hill tells the same")
+
+
+def plain_spares(hill, ant, kind, around, lost):
+    """Whether a class spares: each line of a year that is of it goes on losing nothing, till it comes round."""
+    for line in range(kind, len(lost), around):
+        at, next_ant, seen = line, ant, set()
+        while (at, next_ant) not in seen:
+            seen.add((at, next_ant))
+            at = (at + hill[1][next_ant]) % len(lost)
+            if lost[at]:
+                return False
+            next_ant = (next_ant + 1) % len(hill[1])
+    return True
+
+
+def plain_common(hill):
+    year, ring = plain_year(hill), sum(hill[1])
+    return max(many for many in range(1, min(year, ring) + 1) if year % many == 0 and ring % many == 0)
+
+
+def plain_classes(hill, ant):
+    """All classes that spare with that ant next, one by one."""
+    around, lost = plain_common(hill), plain_losses_of_year(hill)
+    return [kind for kind in range(around) if plain_spares(hill, ant, kind, around, lost)]

@@ -20,6 +20,22 @@ FUNCTIONS = {
         "turn": ["hill", "state"],
         "turns": ["hill", "state", "many"],
     },
+    "lines.py": {
+        "line_of": ["hill", "state"],
+        "stretches": ["hill"],
+        "lost_at": ["hill", "number"],
+        "led": ["hill", "ant", "line"],
+    },
+    "windows.py": {
+        "first_in": ["begin", "step", "around", "low", "high"],
+        "last_below": ["begin", "step", "around", "low", "high", "many"],
+    },
+    "sparing.py": {
+        "common": ["hill"],
+        "sparing": ["hill", "ant"],
+        "spares": ["hill"],
+        "lost_in_all": ["hill", "state"],
+    },
 }
 CLASSES = {
     "errors.py": [
