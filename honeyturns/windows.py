@@ -33,8 +33,7 @@ def first_in(begin, step, around, low, high):
 
 def last_below(begin, step, around, low, high, many):
     """The greatest n below many of which begin and n steps are in the window so, or None."""
-    if many < 1:
-        return None
+    # Gone back from the last step it's the first one.
     back = first_in(begin + (many - 1) * step, -step, around, low, high)
     if back is None or back >= many:
         return None

@@ -16,6 +16,41 @@ NO_POT = (((6, True), (1, True), (0, True)), (2, 3, 1), 0)
 GREAT_POT = (((2, True), (3, False)), (1, 2), 50)
 HILLS = (ONE_DAY, THREE_DAYS, DRY_OPEN_DAYS, MONTHS, ONE_DROP, NO_POT, GREAT_POT)
 
+FAR = 10 ** 40
+TRILLION = 10 ** 12
+# Something is lost at one number of a year alone.
+SELDOM = (((TRILLION, True),) + ((TRILLION - 5, True),) * 11, (999999999989,), TRILLION - 2)
+SELDOM_OF_SIX = (SELDOM[0], (999999999989, TRILLION - 100, TRILLION - 7, 5, 3, 1), TRILLION - 2)
+# Drops and needs are numbers of Fibonacci's.
+GOLDEN = (((591286729879, True),) * 12, (365435296162,) * 5 + (225851433717,), 591286729877)
+OFTEN = (
+    tuple((TRILLION - past * past * 10 ** 9, True) for past in range(12)),
+    tuple(TRILLION - past * 10 ** 11 - 1 for past in range(6)),
+    10 ** 6,
+)
+# Losses go through all of its ants and stretches.
+ALL_MARKS = (
+    tuple((drops, True) for drops in (
+        661747376129, 914520023173, 530977666574, 542512993991, 927454108818, 798558704303,
+        734976404531, 649174567139, 760671928601, 742918923853, 854186917069, 841791758469)),
+    (89784219394, 376088794522, 958234365876, 250396763514, 50594182045, 125574393421),
+    1000,
+)
+SOME_SHUT = (
+    ((TRILLION, True), (0, True), (TRILLION - 6, False), (TRILLION, True)) * 3,
+    (6 * 10 ** 11 - 11, 5, TRILLION - 8, TRILLION - 2 ** 20, 1, TRILLION),
+    TRILLION + 10 ** 11,
+)
+# These spare, with commons of 3 * 10 ** 12: but for some beginnings of the second nothing is ever lost.
+GREAT_CLASSES = (
+    ((TRILLION, True),) * 12, (TRILLION, TRILLION - 3, 1, 2, TRILLION // 2, TRILLION // 2), TRILLION - 10 ** 6,
+)
+HALVES = (((TRILLION, True),) * 12, (TRILLION // 2,) * 6, TRILLION - 10)
+NO_STRETCH = (((TRILLION, True), (TRILLION, False), (3, False)) * 4, (TRILLION, 7, TRILLION - 1), 3 * TRILLION)
+GREAT_SPILLING = (SELDOM, SELDOM_OF_SIX, GOLDEN, OFTEN, ALL_MARKS, SOME_SHUT)
+GREAT_SPARING = (GREAT_CLASSES, HALVES, NO_STRETCH)
+GREAT = GREAT_SPILLING + GREAT_SPARING
+
 
 def small_years(days):
     """All years of so many days with few drops."""
@@ -25,7 +60,10 @@ def small_years(days):
 
 
 def small_hills():
-    """Hills of all small years, with each of some rings and each of some pots."""
+    """Hills of all small years, with each of some rings and each of some pots.
+
+    Each year has twelve: what leaves some of them out goes on by a number that has no part in 12.
+    """
     years = [year for days in (1, 2, 3) for year in small_years(days)]
     rings = ((1,), (2, 5), (7, 1), (3, 3, 1))
     return list(itertools.product(years, rings, (0, 1, 4)))
@@ -236,3 +274,70 @@ def plain_classes(hill, ant):
     """All classes that spare with that ant next, one by one."""
     around, lost = plain_common(hill), plain_losses_of_year(hill)
     return [kind for kind in range(around) if plain_spares(hill, ant, kind, around, lost)]
+
+
+def inside(begin, step, around, low, high, many):
+    return low <= (begin + many * step) % around <= high
+
+
+def floors(many, around, step, begin):
+    """The sum, over n from 0 below many, of how many whole arounds begin and n steps are; step, begin any."""
+    total = 0
+    while many > 0:
+        total += many * (many - 1) // 2 * (step // around) + many * (begin // around)
+        step, begin = step % around, begin % around
+        top = step * many + begin
+        if top < around:
+            break
+        many, begin, around, step = top // around, top % around, step, around
+    return total
+
+
+def how_many(begin, step, around, low, high, many):
+    """Of how many n from 0 below many begin and n steps are in the window, by counting floors."""
+    return floors(many, around, step, begin - low) - floors(many, around, step, begin - high - 1)
+
+
+def check_first_loss(case, hill, ant, line, turn):
+    """In that turn something is lost, in none ahead of it; of turn None in none at all."""
+    ants, around, step = len(hill[1]), total_of(hill, len(hill[0]) - 1), sum(hill[1])
+    number = line
+    for past in range(ants):
+        number += hill[1][(ant + past) % ants]
+        # So many rounds come ahead of the turn in which this ant's turn is ahead of it, too.
+        rounds = around if turn is None else max(0, -(-(turn - 1 - past) // ants))
+        for day in range(len(hill[0])):
+            if is_open(hill, day):
+                low = total_of(hill, day) + 1
+                high = next_total(hill, day) - 1 - hill[2]
+                if low <= high:
+                    hits = how_many(number - low, step, around, 0, high - low, rounds)
+                    case.assertEqual(hits, 0, (hill, ant, line, turn))
+        if turn is not None and (turn - 1 - past) % ants == 0:
+            at = number + (turn - 1) // ants * step
+    if turn is not None:
+        case.assertGreater(lost_there(hill, at), 0, (hill, ant, line, turn))
+
+
+def total_of(hill, day):
+    years, rest = divmod(day, len(hill[0]))
+    drops = [part[0] for part in hill[0]]
+    return years * sum(drops) + sum(drops[:rest + 1])
+
+
+def next_total(hill, day):
+    """By the next open evening that brings more, at most a year on."""
+    ahead = total_of(hill, day)
+    while total_of(hill, day) == ahead or not is_open(hill, day):
+        day += 1
+    return total_of(hill, day)
+
+
+def lost_there(hill, number):
+    """As plain_lost_at, of great drops, too: whole years and days are taken at once."""
+    around = total_of(hill, len(hill[0]) - 1)
+    alike = number % around + around
+    day = 0
+    while total_of(hill, day) < alike or not is_open(hill, day):
+        day += 1
+    return max(0, total_of(hill, day) - hill[2] - alike)

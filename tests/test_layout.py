@@ -36,6 +36,25 @@ FUNCTIONS = {
         "spares": ["hill"],
         "lost_in_all": ["hill", "state"],
     },
+    "papers.py": {
+        "paper": ["hill"],
+        "shows_paper": ["hill", "thing"],
+    },
+    "losses.py": {
+        "next_loss": ["hill", "state"],
+        "losses": ["hill", "state", "many"],
+    },
+    "rounds.py": {
+        "pace": ["hill"],
+        "round_from": ["hill", "state"],
+        "lost_a_round": ["hill"],
+    },
+    "far.py": {
+        "behind": ["hill", "state", "many"],
+        "lost_by": ["hill", "state", "many"],
+        "gone_by": ["hill", "state", "day"],
+        "lost_until": ["hill", "state", "day"],
+    },
 }
 CLASSES = {
     "errors.py": [

@@ -57,7 +57,7 @@ class Common(unittest.TestCase):
 
 class Sparing(unittest.TestCase):
     def test_beside_each_class(self):
-        for hill in hills_with_classes() + list(plain.HILLS) + plain.small_hills()[::3]:
+        for hill in hills_with_classes() + list(plain.HILLS) + plain.small_hills()[::5]:
             for ant in range(len(hill[1])):
                 expected = pairs_of(plain.plain_classes(hill, ant))
                 self.assertEqual(plain.kinds(sparing(hill, ant)), plain.kinds(expected), (hill, ant))
@@ -130,7 +130,7 @@ class Sparing(unittest.TestCase):
 
 class Spares(unittest.TestCase):
     def test_beside_each_class(self):
-        for hill in hills_with_classes() + list(plain.HILLS) + plain.small_hills()[::3]:
+        for hill in hills_with_classes() + list(plain.HILLS) + plain.small_hills()[::5]:
             self.assertIs(spares(hill), len(plain.plain_classes(hill, 0)) > 0, hill)
 
     def test_the_same_whichever_ant_is_next(self):

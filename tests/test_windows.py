@@ -9,28 +9,6 @@ import plain
 FAR = 10 ** 38
 
 
-def inside(begin, step, around, low, high, many):
-    return low <= (begin + many * step) % around <= high
-
-
-def floors(many, around, step, begin):
-    """The sum, over n from 0 below many, of how many whole arounds begin and n steps are; step, begin any."""
-    total = 0
-    while many > 0:
-        total += many * (many - 1) // 2 * (step // around) + many * (begin // around)
-        step, begin = step % around, begin % around
-        top = step * many + begin
-        if top < around:
-            break
-        many, begin, around, step = top // around, top % around, step, around
-    return total
-
-
-def how_many(begin, step, around, low, high, many):
-    """Of how many n from 0 below many begin and n steps are in the window, by counting floors."""
-    return floors(many, around, step, begin - low) - floors(many, around, step, begin - high - 1)
-
-
 def great_rings(seed, many):
     """Rings of 10 ** 38 and more, with windows of one number, of a few, of a share of the ring."""
     chance = random.Random(seed)
@@ -76,7 +54,7 @@ class FirstIn(unittest.TestCase):
             begin, step = chance.randrange(-900, 900), chance.randrange(-900, 900)
             low = chance.randrange(around)
             high = min(around - 1, low + chance.choice((0, 0, 1, 5, 50)))
-            hits = [many for many in range(around) if inside(begin, step, around, low, high, many)]
+            hits = [many for many in range(around) if plain.inside(begin, step, around, low, high, many)]
             told = first_in(begin, step, around, low, high)
             self.assertEqual(told, min(hits, default=None), (begin, step, around, low, high))
 
@@ -121,11 +99,11 @@ class FirstIn(unittest.TestCase):
         for ring in great_rings(1, 1500):
             told = first_in(*ring)
             if told is None:
-                self.assertEqual(how_many(*ring, ring[2]), 0, ring)
+                self.assertEqual(plain.how_many(*ring, ring[2]), 0, ring)
             else:
                 found += 1
-                self.assertTrue(inside(*ring, told), ring)
-                self.assertEqual(how_many(*ring, told), 0, ring)
+                self.assertTrue(plain.inside(*ring, told), ring)
+                self.assertEqual(plain.how_many(*ring, told), 0, ring)
         self.assertTrue(500 < found < 1500)
 
     def test_how_many_counts(self):
@@ -134,8 +112,8 @@ class FirstIn(unittest.TestCase):
                 for begin in range(-8, 9):
                     ring = (begin, step, around, around // 3, around // 2)
                     for many in range(10):
-                        hits = sum(inside(*ring, past) for past in range(many))
-                        self.assertEqual(how_many(*ring, many), hits, ring)
+                        hits = sum(plain.inside(*ring, past) for past in range(many))
+                        self.assertEqual(plain.how_many(*ring, many), hits, ring)
 
     def test_great_rings_by_parts_of_the_window(self):
         for ring in great_rings(2, 300):
@@ -191,11 +169,11 @@ class LastBelow(unittest.TestCase):
             many = chance.choice((1, 10, 10 ** 20, 10 ** 38, 10 ** 40))
             told = last_below(*ring, many)
             if told is None:
-                self.assertEqual(how_many(*ring, many), 0, ring)
+                self.assertEqual(plain.how_many(*ring, many), 0, ring)
             else:
                 found += 1
-                self.assertTrue(0 <= told < many and inside(*ring, told), ring)
-                self.assertEqual(how_many(*ring, many), how_many(*ring, told + 1), ring)
+                self.assertTrue(0 <= told < many and plain.inside(*ring, told), ring)
+                self.assertEqual(plain.how_many(*ring, many), plain.how_many(*ring, told + 1), ring)
         self.assertTrue(200 < found < 1500)
 
     def test_the_way_back_of_first_in(self):
@@ -223,11 +201,11 @@ class Asking(unittest.TestCase):
         for begin, step, around in rings:
             for low, high in ((0, 0), (around - 1, around - 1), (around // 3, around // 3), (around // 3, around // 2)):
                 told = first_in(begin, step, around, low, high)
-                self.assertEqual(how_many(begin, step, around, low, high, around if told is None else told), 0)
+                self.assertEqual(plain.how_many(begin, step, around, low, high, around if told is None else told), 0)
                 last = last_below(begin, step, around, low, high, 10 ** 39)
                 behind = 0 if last is None else last + 1
-                counted = how_many(begin, step, around, low, high, behind)
-                self.assertEqual(how_many(begin, step, around, low, high, 10 ** 39), counted)
+                counted = plain.how_many(begin, step, around, low, high, behind)
+                self.assertEqual(plain.how_many(begin, step, around, low, high, 10 ** 39), counted)
         self.assertLess(time.perf_counter() - begun, 2)
 
     def test_as_great_as_they_come(self):

@@ -1,0 +1,66 @@
+"""Far turns, days, windows and classes aren't gone through one by one: each answer takes well under a second."""
+
+import time
+import unittest
+
+from honeyturns.far import behind, gone_by, lost_by, lost_until
+from honeyturns.hills import open_from
+from honeyturns.lines import led, line_of, lost_at, stretches
+from honeyturns.losses import losses, next_loss
+from honeyturns.papers import paper, shows_paper
+from honeyturns.rounds import lost_a_round, pace, round_from
+from honeyturns.sparing import common, lost_in_all, spares, sparing
+
+import plain
+
+FAR = 10 ** 40
+# Many rounds of 10 ** 12 drops a year and one drop less: it's lost at 1 alone, or at all but a few.
+SLOW = tuple(
+    (((10 ** 12, True), (0, False)) * 6, needs, most)
+    for needs in ((10 ** 12 - 1,), (10 ** 12,) * 5 + (10 ** 12 - 1,), (1,), (1, 2, 3))
+    for most in (0, 1, 10 ** 12 // 2, 10 ** 12 - 2, 10 ** 12)
+)
+
+
+class Speed(unittest.TestCase):
+    def quick(self, ask, *handed):
+        begun = time.perf_counter()
+        told = ask(*handed)
+        self.assertLess(time.perf_counter() - begun, 1, (ask, handed))
+        return told
+
+    def test_a_hill(self):
+        for hill in plain.GREAT + SLOW:
+            for ask in (stretches, common, spares, paper, pace, lost_a_round):
+                self.quick(ask, hill)
+            for ant in range(len(hill[1])):
+                self.quick(sparing, hill, ant)
+                self.quick(led, hill, ant, -FAR)
+            self.quick(lost_at, hill, FAR)
+            self.quick(shows_paper, hill, paper(hill))
+            self.quick(shows_paper, hill, ("spares", common(hill) - 1))
+            rows = [(ant, place) for place in range(len(stretches(hill))) for ant in range(len(hill[1]))]
+            self.quick(shows_paper, hill, ("spills", rows))
+
+    def test_a_state(self):
+        for hill in plain.GREAT + SLOW:
+            for state in ((0, 0, 0), (open_from(hill, FAR), len(hill[1]) - 1, hill[2] // 3)):
+                for ask in (line_of, lost_in_all, next_loss, round_from):
+                    self.quick(ask, hill, state)
+                self.quick(losses, hill, state, 100)
+                for many in (10 ** 13 + 7, FAR, 10 ** 53):
+                    self.quick(behind, hill, state, many)
+                    self.quick(lost_by, hill, state, many)
+                    self.quick(gone_by, hill, state, state[0] + many)
+                    self.quick(lost_until, hill, state, state[0] + many)
+
+    def test_what_was_told_is_handed_in_again(self):
+        for hill in plain.GREAT + SLOW:
+            gone = self.quick(gone_by, hill, (0, 0, 0), FAR)
+            for _ in range(3):
+                state = self.quick(behind, hill, (0, 0, 0), gone)
+                gone = self.quick(gone_by, hill, (0, 0, 0), FAR * state[0])
+
+
+if __name__ == "__main__":
+    unittest.main()
