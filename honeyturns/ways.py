@@ -11,21 +11,24 @@ one's number. Where no more losses come the marks end with the last one, and aga
 
 from honeyturns.hills import day_of, given_by, ring_needs, year_drops
 from honeyturns.lines import lost_at, needed, stretches
-from honeyturns.windows import first_in
+from honeyturns.windows import least_steps
 
 
 def loss_turn(hill, ant, line):
     """In which turn, counted from 1, something is lost first, that ant next; None where it never is."""
-    ants, around, step = len(hill[1]), year_drops(hill), ring_needs(hill)
-    places = stretches(hill)
-    found = []
+    ants, around, places = len(hill[1]), year_drops(hill), stretches(hill)
+    windows = []
     for first in range(1, ants + 1):
         number = line + needed(hill, ant, first)
-        for low, high in places:
-            rounds = first_in(number - low, step, around, 0, high - low)
-            if rounds is not None:
-                found.append(rounds * ants + first)
-    return min(found, default=None)
+        if lost_at(hill, number) > 0:
+            return first
+        aheads = [((low - number) % around, high - low) for low, high in places]
+        windows.extend([(ahead, ahead + wide) for ahead, wide in aheads])
+    found = least_steps(windows, ring_needs(hill) % around, around)
+    if found is None:
+        return None
+    rounds, place = found
+    return rounds * ants + place // len(places) + 1
 
 
 def mark_behind(hill, mark):

@@ -55,6 +55,22 @@ FUNCTIONS = {
         "gone_by": ["hill", "state", "day"],
         "lost_until": ["hill", "state", "day"],
     },
+    "back.py": {
+        "latest_line": ["hill", "ant", "many", "line"],
+        "least_pot": ["hill", "day", "ant", "many", "by"],
+        "pots_seen": ["hill", "day", "ant", "evenings"],
+    },
+    "pairs.py": {
+        "gaps": ["hill", "one", "other", "many"],
+        "meeting": ["hill", "one", "other"],
+        "rounds_behind": ["hill", "one", "other"],
+    },
+    "pots.py": {
+        "with_pot": ["hill", "most"],
+        "enough": ["hill"],
+        "least_sparing": ["hill"],
+        "least_for": ["hill", "rounds", "years"],
+    },
 }
 CLASSES = {
     "errors.py": [

@@ -3,13 +3,17 @@
 import time
 import unittest
 
+from honeyturns.back import latest_line, least_pot, pots_seen
 from honeyturns.far import behind, gone_by, lost_by, lost_until
-from honeyturns.hills import open_from
+from honeyturns.hills import open_from, ring_needs, year_drops
 from honeyturns.lines import led, line_of, lost_at, stretches
 from honeyturns.losses import losses, next_loss
+from honeyturns.pairs import gaps, meeting, rounds_behind
 from honeyturns.papers import paper, shows_paper
+from honeyturns.pots import enough, least_for, least_sparing, with_pot
 from honeyturns.rounds import lost_a_round, pace, round_from
 from honeyturns.sparing import common, lost_in_all, spares, sparing
+from honeyturns.turns import turns
 
 import plain
 
@@ -20,6 +24,9 @@ SLOW = tuple(
     for needs in ((10 ** 12 - 1,), (10 ** 12,) * 5 + (10 ** 12 - 1,), (1,), (1, 2, 3))
     for most in (0, 1, 10 ** 12 // 2, 10 ** 12 - 2, 10 ** 12)
 )
+# All evenings' stretches are narrow, and a ring of needs leads past them as long as can be.
+NARROW = (((10 ** 12, True),) * 12, tuple(763932000002 + more for more in (0, 2, 8, 4, 3, 1)), 10 ** 12 - 5)
+GREAT = plain.GREAT + SLOW + (NARROW,)
 
 
 class Speed(unittest.TestCase):
@@ -30,7 +37,7 @@ class Speed(unittest.TestCase):
         return told
 
     def test_a_hill(self):
-        for hill in plain.GREAT + SLOW:
+        for hill in GREAT:
             for ask in (stretches, common, spares, paper, pace, lost_a_round):
                 self.quick(ask, hill)
             for ant in range(len(hill[1])):
@@ -43,7 +50,7 @@ class Speed(unittest.TestCase):
             self.quick(shows_paper, hill, ("spills", rows))
 
     def test_a_state(self):
-        for hill in plain.GREAT + SLOW:
+        for hill in GREAT:
             for state in ((0, 0, 0), (open_from(hill, FAR), len(hill[1]) - 1, hill[2] // 3)):
                 for ask in (line_of, lost_in_all, next_loss, round_from):
                     self.quick(ask, hill, state)
@@ -54,8 +61,34 @@ class Speed(unittest.TestCase):
                     self.quick(gone_by, hill, state, state[0] + many)
                     self.quick(lost_until, hill, state, state[0] + many)
 
+    def test_back(self):
+        for hill in GREAT:
+            for day in (open_from(hill, 0), open_from(hill, FAR)):
+                self.quick(latest_line, hill, 0, 400, FAR)
+                for by in (day, day + 400, day + FAR):
+                    self.quick(least_pot, hill, day, 0, 400, by)
+                row = [at[0] for at, _ in turns(hill, (day, 0, hill[2] // 2), 60)]
+                self.assertIsNotNone(self.quick(pots_seen, hill, day, 0, row))
+
+    def test_pairs(self):
+        for hill in GREAT:
+            states = [(open_from(hill, day), 0, pot) for day in (0, 5, FAR) for pot in (0, hill[2])]
+            for one, other in zip(states, states[1:] + states[:1]):
+                self.quick(gaps, hill, one, other, 400)
+                self.quick(meeting, hill, one, other)
+                self.quick(rounds_behind, hill, one, other)
+
+    def test_pots(self):
+        for hill in GREAT:
+            rounds, years = year_drops(hill), ring_needs(hill)
+            self.quick(with_pot, hill, FAR)
+            self.quick(enough, hill)
+            self.quick(least_sparing, hill)
+            for pace_wanted in ((rounds, years), (rounds * FAR - 1, years * FAR), pace(hill), (1, 3), (1, FAR)):
+                self.quick(least_for, hill, *pace_wanted)
+
     def test_what_was_told_is_handed_in_again(self):
-        for hill in plain.GREAT + SLOW:
+        for hill in GREAT:
             gone = self.quick(gone_by, hill, (0, 0, 0), FAR)
             for _ in range(3):
                 state = self.quick(behind, hill, (0, 0, 0), gone)
