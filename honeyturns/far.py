@@ -10,17 +10,22 @@ def way_from(hill, state):
     return way_of(hill, state[1], line_of(hill, state))
 
 
-def behind(hill, state, many):
-    """The STATE behind so many turns."""
+def gone_far(hill, state, many):
+    """The pair (STATE, lost) behind so many turns: how much is lost in all of them."""
     day, ant, _ = state
     line = line_behind(hill, way_from(hill, state), many)
-    return state_behind(hill, day, (ant + many) % len(hill[1]), line)
+    lost = line - line_of(hill, state) - needed(hill, ant, many)
+    return state_behind(hill, day, (ant + many) % len(hill[1]), line), lost
+
+
+def behind(hill, state, many):
+    """The STATE behind so many turns."""
+    return gone_far(hill, state, many)[0]
 
 
 def lost_by(hill, state, many):
     """How much is lost in so many turns."""
-    line = line_behind(hill, way_from(hill, state), many)
-    return line - line_of(hill, state) - needed(hill, state[1], many)
+    return gone_far(hill, state, many)[1]
 
 
 def open_until(hill, day):

@@ -1,6 +1,6 @@
 """Losses: each turn in which something is lost, told without going there."""
 
-from honeyturns.lines import line_of, needed
+from honeyturns.lines import line_of, needed, stretches
 from honeyturns.ways import mark_at, mark_behind, state_behind, way_of
 
 
@@ -14,7 +14,7 @@ def told_loss(hill, day, mark, next_mark):
 def next_loss(hill, state):
     """The triple (turn, STATE, lost) of the first turn in which something is lost; None where there's none."""
     mark = (0, state[1], line_of(hill, state))
-    next_mark = mark_behind(hill, mark)
+    next_mark = mark_behind(hill, stretches(hill), mark)
     if next_mark is None:
         return None
     return told_loss(hill, state[0], mark, next_mark)

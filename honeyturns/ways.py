@@ -14,27 +14,31 @@ from honeyturns.lines import lost_at, needed, stretches
 from honeyturns.windows import least_steps
 
 
-def loss_turn(hill, ant, line):
-    """In which turn, counted from 1, something is lost first, that ant next; None where it never is."""
-    ants, around, places = len(hill[1]), year_drops(hill), stretches(hill)
-    windows = []
+def loss_turn(hill, places, ant, line):
+    """In which turn, counted from 1, something is lost first, that ant next; None where it never is.
+
+    Places is the list of the hill's stretches.
+    """
+    ants, around = len(hill[1]), year_drops(hill)
+    wides = [high - low for low, high in places]
+    highs = []
     for first in range(1, ants + 1):
         number = line + needed(hill, ant, first)
-        if lost_at(hill, number) > 0:
+        if any([(number - low) % around <= high - low for low, high in places]):
             return first
-        aheads = [((low - number) % around, high - low) for low, high in places]
-        windows.extend([(ahead, ahead + wide) for ahead, wide in aheads])
-    found = least_steps(windows, ring_needs(hill) % around, around)
+        # The number is in no stretch, so these are ahead of it and end before it comes again.
+        highs.extend([(low - number) % around + high - low for low, high in places])
+    found = least_steps(highs, wides * ants, ring_needs(hill) % around, around)
     if found is None:
         return None
     rounds, place = found
     return rounds * ants + place // len(places) + 1
 
 
-def mark_behind(hill, mark):
+def mark_behind(hill, places, mark):
     """The mark behind the first turn from a mark on in which something is lost; None where it never is."""
     turn, ant, line = mark
-    many = loss_turn(hill, ant, line)
+    many = loss_turn(hill, places, ant, line)
     if many is None:
         return None
     number = line + needed(hill, ant, many)
@@ -43,7 +47,7 @@ def mark_behind(hill, mark):
 
 def way_of(hill, ant, line):
     """The way from the line on, that ant next."""
-    around = year_drops(hill)
+    around, places = year_drops(hill), stretches(hill)
     marks = []
     numbers = {}
     mark = (0, ant, line)
@@ -53,7 +57,7 @@ def way_of(hill, ant, line):
         if like in numbers:
             return marks, numbers[like]
         numbers[like] = len(marks) - 1
-        mark = mark_behind(hill, mark)
+        mark = mark_behind(hill, places, mark)
     return marks, None
 
 

@@ -1,21 +1,21 @@
 """Windows: which of the steps around a ring lead into a lot of numbers one behind the other."""
 
 
-def gone_back(rings, found):
-    """The least pair (steps, place) of the first ring, found in the ring behind the last one."""
-    for step, around, windows in reversed(rings):
+def gone_back(rings, wides, found):
+    """The least pair (steps, place) of the first ring, of those found in the ring behind the last one."""
+    for step, around, highs in reversed(rings):
         # More times around are more steps: only windows of the fewest may be the first one.
         fewest = min(found)[0]
         ties = [(times, place) for times, place in found if times == fewest]
-        found = [(-(-(times * around + windows[place][0]) // step), place) for times, place in ties]
+        found = [(-(-(times * around + highs[place] - wides[place]) // step), place) for times, place in ties]
     return min(found)
 
 
-def least_steps(windows, step, around):
+def least_steps(highs, wides, step, around):
     """The least pair (n, place) such that n steps, whole arounds taken off, lead into the window of that place.
 
-    None where no steps lead into any. The step is from 0 and below around; windows are a list of
-    pairs (low, high), each low above 0, high below around.
+    None where no steps lead into any. The step is from 0 and below around; a window goes from its
+    high less its wide to its high, from above 0 to below around.
     """
     rings = []
     # A window that no whole steps lead into ahead of around is narrower than a step: of each time
@@ -23,12 +23,19 @@ def least_steps(windows, step, around):
     # smaller ring, one step around. So rings shrink as in Euclid's division. Windows that are met
     # ahead of around are met ahead of all others.
     while step > 0:
-        places = [place for place, (low, high) in enumerate(windows) if high % step <= high - low]
+        rests = [high % step for high in highs]
+        places = [place for place, rest in enumerate(rests) if rest <= wides[place]]
         if places:
-            return gone_back(rings, [(-(-windows[place][0] // step), place) for place in places])
-        rings.append((step, around, windows))
-        windows = [(-high % step, -low % step) for low, high in windows]
+            found = [(-(-(highs[place] - wides[place]) // step), place) for place in places]
+            return gone_back(rings, wides, found)
+        rings.append((step, around, highs))
+        # In the smaller ring times around go back from a window: where that's more than half of it,
+        # they go on by what is left of it, towards the window's other end.
         step, around = around % step, step
+        if 2 * step > around:
+            step, highs = around - step, rests
+        else:
+            highs = [around - rest + wide for rest, wide in zip(rests, wides)]
     return None
 
 
@@ -39,7 +46,7 @@ def first_in(begin, step, around, low, high):
     beyond = ahead + high - low
     if ahead == 0 or beyond >= around:
         return 0
-    found = least_steps([(ahead, beyond)], step % around, around)
+    found = least_steps([beyond], [high - low], step % around, around)
     return None if found is None else found[0]
 
 

@@ -71,11 +71,50 @@ FUNCTIONS = {
         "least_sparing": ["hill"],
         "least_for": ["hill", "rounds", "years"],
     },
+    "houses.py": {
+        "house": ["hill", "ant", "many"],
+        "led_by": ["house", "line"],
+        "joined": ["one", "other"],
+    },
+    "texts.py": {
+        "hill_text": ["hill"],
+        "hill_in": ["text"],
+    },
+    "desk.py": {
+        "answers": ["text"],
+    },
 }
 CLASSES = {
     "errors.py": [
         "Unlike", "Barren", "BadText", "BadRow", "NoDay", "NoAnt", "NoDeed", "Already", "Today", "Last", "Dry",
     ],
+    "vine.py": ["Vine"],
+}
+METHODS = {
+    "__init__": ["hill", "state"],
+    "go": ["many"],
+    "pour": ["drops"],
+    "dip": ["drops"],
+    "weather": ["day", "drops"],
+    "unlock": ["day"],
+    "lock": ["day"],
+    "need": ["ant", "many"],
+    "adopt": ["ant", "many"],
+    "part": ["ant"],
+    "pot": ["most"],
+    "undo": [],
+    "hill": [],
+    "state": [],
+    "lost": [],
+    "gone": [],
+    "deeds": [],
+    "forecast": ["many"],
+    "as_of": ["many"],
+    "twin": [],
+    "log": [],
+    "__eq__": ["other"],
+    "__len__": [],
+    "__repr__": [],
 }
 
 
@@ -100,6 +139,15 @@ class Interface(unittest.TestCase):
             for name in classes:
                 with self.subTest(file=file, name=name):
                     self.assertIn(name, defined)
+
+    def test_methods_stand_in_the_class_itself(self):
+        vine = [node for node in parsed(PACKAGE / "vine.py").body if isinstance(node, ast.ClassDef)][0]
+        defined = {
+            node.name: [arg.arg for arg in node.args.args] for node in vine.body if isinstance(node, ast.FunctionDef)
+        }
+        for name, parameters in METHODS.items():
+            with self.subTest(name=name):
+                self.assertEqual(defined.get(name), ["self"] + parameters)
 
 
 class Rules(unittest.TestCase):

@@ -111,6 +111,20 @@ class Meeting(unittest.TestCase):
         self.assertGreater(sum(turn not in (None, 0) for turn in found), 50)
         self.assertGreater(max(turn for turn in found if turn is not None), 3)
 
+    def test_more_turns_than_drops_ahead_of_it(self):
+        # The great pot alone is enough for many turns: lines are far below 0.
+        late = 0
+        for most in range(40, 60):
+            for needs in ((1, 2), (2,), (2, 4, 2), (1,)):
+                hill = (((2, True), (60, True)), needs, most)
+                for pot, other_pot in ((most, most - 1), (most - 4, most), (most // 2, most - 1)):
+                    one, other = (0, 0, pot), (0, 0, other_pot)
+                    lines, other_lines = plain_lines(hill, one, 200), plain_lines(hill, other, 200)
+                    met = [at for at in range(201) if lines[at] == other_lines[at]]
+                    late += bool(met) and met[0] > max(lines[met[0] - 1], 0)
+                    self.assertEqual(meeting(hill, one, other), met[0] if met else None, (hill, one, other))
+        self.assertGreater(late, 20)
+
     def test_of_one_line(self):
         for hill in (plain.GREAT_POT, plain.DRY_OPEN_DAYS, (((0, True), (3, True)), (2, 1), 9)):
             states = plain.states_of(hill, 3 * len(hill[0]))

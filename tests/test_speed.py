@@ -4,8 +4,11 @@ import time
 import unittest
 
 from honeyturns.back import latest_line, least_pot, pots_seen
+from honeyturns.desk import answers
+from honeyturns.errors import BadRow, BadText
 from honeyturns.far import behind, gone_by, lost_by, lost_until
 from honeyturns.hills import open_from, ring_needs, year_drops
+from honeyturns.houses import house, joined, led_by
 from honeyturns.lines import led, line_of, lost_at, stretches
 from honeyturns.losses import losses, next_loss
 from honeyturns.pairs import gaps, meeting, rounds_behind
@@ -13,7 +16,9 @@ from honeyturns.papers import paper, shows_paper
 from honeyturns.pots import enough, least_for, least_sparing, with_pot
 from honeyturns.rounds import lost_a_round, pace, round_from
 from honeyturns.sparing import common, lost_in_all, spares, sparing
+from honeyturns.texts import hill_in, hill_text
 from honeyturns.turns import turns
+from honeyturns.vine import Vine
 
 import plain
 
@@ -31,9 +36,9 @@ GREAT = plain.GREAT + SLOW + (NARROW,)
 
 class Speed(unittest.TestCase):
     def quick(self, ask, *handed):
-        begun = time.perf_counter()
+        begun = time.process_time()
         told = ask(*handed)
-        self.assertLess(time.perf_counter() - begun, 1, (ask, handed))
+        self.assertLess(time.process_time() - begun, 1, (ask, handed))
         return told
 
     def test_a_hill(self):
@@ -86,6 +91,50 @@ class Speed(unittest.TestCase):
             self.quick(least_sparing, hill)
             for pace_wanted in ((rounds, years), (rounds * FAR - 1, years * FAR), pace(hill), (1, 3), (1, FAR)):
                 self.quick(least_for, hill, *pace_wanted)
+
+    def test_houses(self):
+        for hill in GREAT:
+            told = self.quick(house, hill, len(hill[1]) - 1, 60)
+            for _ in range(3):
+                self.quick(led_by, told, FAR)
+                told = self.quick(joined, told, told)
+
+    def test_vine(self):
+        for hill in GREAT:
+            day = open_from(hill, FAR)
+            vine = Vine(hill, (day, 0, hill[2]))
+            for _ in range(4):
+                for deed in (("go", FAR), ("dip", 0), ("pour", FAR), ("weather", 0, FAR), ("need", 0, 10 ** 12 - 1), ("go",),
+                             ("unlock", 1), ("adopt", 1, 7), ("lock", 1), ("part", 1), ("pot", 10 ** 12 - 3), ("undo",),
+                             ("pot", 10 ** 12 - 2), ("go", 10 ** 20)):
+                    try:
+                        self.quick(getattr(vine, deed[0]), *deed[1:])
+                    except RuntimeError:
+                        pass
+                for ask, numbers in (("forecast", (100,)), ("as_of", (vine.deeds() // 2,)), ("twin", ()), ("log", ())):
+                    self.quick(getattr(vine, ask), *numbers)
+                self.assertTrue(self.quick(vine.__eq__, vine.twin()))
+
+    def test_texts(self):
+        for hill in GREAT:
+            self.assertEqual(self.quick(hill_in, self.quick(hill_text, hill)), hill)
+        for row in ("x" * 200, "pot " + "9" * 196, "open " + "0" * 195, " " * 200):
+            self.refused(hill_in, "\n".join(["pot 3"] + ["open 3"] * 58 + [row]), BadText)
+            self.refused(answers, "\n".join(["pot 3"] + ["open 3"] * 58 + [row]), BadRow)
+
+    def refused(self, ask, text, refusal):
+        begun = time.process_time()
+        self.assertRaises(refusal, ask, text)
+        self.assertLess(time.process_time() - begun, 1)
+
+    def test_desk(self):
+        kinds = (["far " + "9" * 41], ["go " + "9" * 41], ["by " + "9" * 41], ["next", "ever", "spares", "pace"],
+                 ["dip 1", "go 1"], ["need 0 999999999989", "pace", "undo", "far 5"])
+        for hill in GREAT:
+            head = hill_text(hill).split("\n") + ["begin 0 0 0"]
+            for rows in kinds:
+                text = "\n".join(head + (rows * 60)[:60 - len(head)])
+                self.assertEqual(len(self.quick(answers, text)), 60 - len(head))
 
     def test_what_was_told_is_handed_in_again(self):
         for hill in GREAT:
