@@ -124,6 +124,15 @@ class Meeting(unittest.TestCase):
                     late += bool(met) and met[0] > max(lines[met[0] - 1], 0)
                     self.assertEqual(meeting(hill, one, other), met[0] if met else None, (hill, one, other))
         self.assertGreater(late, 20)
+        # They're one only behind more turns than their line is then.
+        for hill, one, other, many in (
+            ((((0, True), (6, True), (0, True)), (2, 1), 4), (0, 0, 4), (0, 0, 3), 3),
+            ((((0, True), (12, True)), (2,), 10), (0, 0, 8), (0, 0, 9), 5),
+            ((((0, True), (12, False)), (3, 1, 5), 10), (0, 0, 7), (0, 0, 8), 3),
+        ):
+            both = zip(plain_lines(hill, one, many), plain_lines(hill, other, many))
+            self.assertEqual([line == other_line for line, other_line in both], [False] * many + [True])
+            self.assertEqual((meeting(hill, one, other), meeting(hill, other, one)), (many, many))
 
     def test_of_one_line(self):
         for hill in (plain.GREAT_POT, plain.DRY_OPEN_DAYS, (((0, True), (3, True)), (2, 1), 9)):
